@@ -1,6 +1,10 @@
 package grammar
 
-import "predict/api"
+import (
+	"strings"
+
+	"predict/api"
+)
 
 // reader: goes through a grammar's text by one token ahead.
 type reader struct {
@@ -9,81 +13,104 @@ type reader struct {
 	open int // brackets that are not closed yet
 }
 
-// checkText: the first fault of how a text is written, or nil.
-func checkText(src string) error {
+// readText: the rules of a text, or the first fault of how it is written.
+func readText(src string) ([]rule, error) {
 	r := &reader{src: src, next: tokenFrom(src, 0)}
+	var rules []rule
 	for r.next.kind != textEnd {
-		if err := r.rule(); err != nil {
-			return err
+		one, err := r.rule()
+		if err != nil {
+			return nil, err
 		}
+		rules = append(rules, one)
 	}
-	return nil
+	return rules, nil
 }
 
-func (r *reader) rule() error {
+func (r *reader) rule() (rule, error) {
+	one := rule{name: r.text(), at: r.next.at}
 	if err := r.take(aName); err != nil {
-		return err
+		return rule{}, err
 	}
 	if err := r.take('='); err != nil {
-		return err
+		return rule{}, err
 	}
-	if err := r.expression(); err != nil {
-		return err
+	body, err := r.expression()
+	if err != nil {
+		return rule{}, err
 	}
-	return r.take('.')
+	one.body = body
+	return one, r.take('.')
 }
 
-func (r *reader) expression() error {
+func (r *reader) expression() (expression, error) {
+	var rows expression
+	sign := 0
 	for {
-		if err := r.row(); err != nil {
-			return err
+		parts, err := r.row()
+		if err != nil {
+			return nil, err
 		}
+		rows = append(rows, row{sign, parts})
 		if r.next.kind != '|' {
-			return nil
+			return rows, nil
 		}
+		sign = r.next.at
 		r.advance()
 	}
 }
 
 // row ends at what begins no part; whether that can stand there, the caller tells.
-func (r *reader) row() error {
+func (r *reader) row() ([]part, error) {
+	var parts []part
 	for {
 		switch r.next.kind {
-		case aName, aWord:
+		case aName:
+			parts = append(parts, &name{text: r.text(), at: r.next.at})
+			r.advance()
+		case aWord:
+			parts = append(parts, &word{text: strings.Trim(r.text(), `"`)})
 			r.advance()
 		case '(', '[', '{':
-			if err := r.bracket(); err != nil {
-				return err
+			p, err := r.bracket()
+			if err != nil {
+				return nil, err
 			}
+			parts = append(parts, p)
 		default:
-			return nil
+			return parts, nil
 		}
 	}
 }
 
-func (r *reader) bracket() error {
+func (r *reader) bracket() (part, error) {
+	opening := r.next
 	if r.open == api.MaxDepth {
-		return &api.SyntaxError{At: r.next.at, Deep: true}
+		return nil, &api.SyntaxError{At: opening.at, Deep: true}
 	}
-	closing := closes(r.next.kind)
 	r.open++
 	r.advance()
-	if err := r.expression(); err != nil {
-		return err
+	in, err := r.expression()
+	if err != nil {
+		return nil, err
 	}
 	r.open--
-	return r.take(closing)
+	closing, p := bracketed(opening.kind, bracket{opening.at, in})
+	if err := r.take(closing); err != nil {
+		return nil, err
+	}
+	return p, nil
 }
 
-// closes: the bracket that closes one that opens.
-func closes(opening kind) kind {
+// bracketed: the sign that closes a bracket, and the part that it makes.
+func bracketed(opening kind, b bracket) (closing kind, p part) {
 	switch opening {
 	case '(':
-		return ')'
+		return ')', &group{b}
 	case '[':
-		return ']'
+		return ']', &option{b}
 	}
-	return '}'
+	return '}', &loop{b}
 }
 
 // take goes on behind the next token, if it is of that kind. The text's end has its length as its place: so a text that ends too soon needs no care of its own.
@@ -96,3 +123,6 @@ func (r *reader) take(k kind) error {
 }
 
 func (r *reader) advance() { r.next = tokenFrom(r.src, r.next.to) }
+
+// text: a copy of the next token, so that a parser does not hold on to the caller's text.
+func (r *reader) text() string { return strings.Clone(r.src[r.next.at:r.next.to]) }

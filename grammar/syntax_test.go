@@ -299,7 +299,12 @@ func FuzzCompile(f *testing.F) {
 	for _, src := range []string{"", "s = .", "s = \"a\" [ s ] \"b\" .", "s = ( \"a\" ] .", "\xff\xfe", "s = \x00", "((((((((((((", "s=((((((((((((", strings.Repeat("\"", 400), strings.Repeat("s=.", 133), strings.Repeat("é", 200), strings.Repeat("a", 1000)} {
 		f.Add(src)
 	}
-	f.Fuzz(func(t *testing.T, src string) { expect(t, src, slow(src)) })
+	f.Fuzz(func(t *testing.T, src string) {
+		expect(t, src, slow(src))
+		if v := judge(t, src); strings.HasPrefix(v.kind, strangeKind) {
+			t.Errorf("Compile(%q): %v", src, v)
+		}
+	})
 }
 
 // TestFromOutside: the same, as package plain asks it.

@@ -1,0 +1,72 @@
+package grammar
+
+// rule: a name, the place of it, and its expression.
+type rule struct {
+	name string
+	at   int
+	body expression
+}
+
+// expression: one or more rows.
+type expression []row
+
+// row: its parts, and the place of the '|' ahead of it (0 for an expression's first row, which has none).
+type row struct {
+	at    int
+	parts []part
+}
+
+// part: *word, *name, *option, *loop or *group. A word and a name have nothing within.
+type part interface {
+	within() expression
+}
+
+type word struct {
+	single
+	text string
+}
+
+type name struct {
+	single
+	text string
+	at   int
+}
+
+type option struct{ bracket }
+
+type loop struct{ bracket }
+
+// group: round brackets.
+type group struct{ bracket }
+
+type single struct{}
+
+func (single) within() expression { return nil }
+
+// bracket: the place of the opening sign, and the expression behind it.
+type bracket struct {
+	at int
+	in expression
+}
+
+func (b bracket) within() expression { return b.in }
+
+// names: those that stand in an expression, in the order of the text.
+func (e expression) names() func(yield func(*name) bool) {
+	return func(yield func(*name) bool) { e.tellNames(yield) }
+}
+
+// tellNames answers whether more is wanted, so that a call within a call can end all of them.
+func (e expression) tellNames(yield func(*name) bool) bool {
+	for _, r := range e {
+		for _, p := range r.parts {
+			if n, ok := p.(*name); ok && !yield(n) {
+				return false
+			}
+			if !p.within().tellNames(yield) {
+				return false
+			}
+		}
+	}
+	return true
+}
