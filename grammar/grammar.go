@@ -3,6 +3,7 @@ package grammar
 
 import (
 	"maps"
+	"sync"
 
 	"predict/api"
 )
@@ -75,22 +76,23 @@ func (p *Parser) hasRule(name string) bool {
 	return ok
 }
 
-// Parse: the tree of an input (P6).
-func (p *Parser) Parse(words func(yield func(string) bool)) (*Tree, error) { return nil, nil }
-
-// Tree: of an input.
-type Tree struct{}
-
-// Root: its uppermost node (P6).
-func (t *Tree) Root() api.Node { return nil }
-
-// Walk: a tree's nodes, each ahead of those below it, with how deep they stand (P7).
-func (t *Tree) Walk() func(yield func(int, api.Node) bool) {
-	return func(yield func(int, api.Node) bool) {}
-}
-
-// Fold: a tree from below (P8).
-func Fold[T any](t *Tree, leaf func(*api.Leaf) T, inner func(api.Node, []T) T) T {
-	var none T
-	return none
+// Parse: the tree of an input (P6). A parser that no Compile has made has no rule to parse by.
+func (p *Parser) Parse(words func(yield func(string) bool)) (*Tree, error) {
+	if p == nil || len(p.rules) == 0 {
+		return nil, api.ErrEmpty
+	}
+	in := &input{words: make(chan string), more: make(chan bool)}
+	var root api.Node
+	var err error
+	var parser sync.WaitGroup
+	parser.Go(func() {
+		defer close(in.more)
+		root, err = p.descend(in.words, in.more)
+	})
+	in.tellAll(words)
+	parser.Wait()
+	if err != nil {
+		return nil, err
+	}
+	return &Tree{root}, nil
 }

@@ -18,6 +18,7 @@ type model struct {
 	rules  []placed // the rules of the text
 	used   []placed // the names in their expressions
 	signs  []sign   // where a clash may be
+	bodies map[string][][]shape
 	alts   map[string][][]string
 	empty  map[string]bool
 	first  map[string]map[string]bool
@@ -27,6 +28,13 @@ type model struct {
 type placed struct {
 	name string
 	at   int
+}
+
+// shape: a part as it is written: a word ('"'), a name ('a'), or a bracket with what stands in it.
+type shape struct {
+	kind byte
+	text string
+	rows [][]shape
 }
 
 // sign: at it begins that alternative of that rule; of an option and a loop the one that is nothing, for all of it is known at the bracket.
@@ -41,7 +49,8 @@ type scribe struct {
 	*rand.Rand
 	*model
 	names, words []string
-	below        int // the names from here on have rules that come later
+	below        int  // the names from here on have rules that come later
+	mild         bool // what is written is to be usable, where that is easy
 }
 
 func (s *scribe) put(token string) int {
@@ -60,30 +69,43 @@ func (s *scribe) fresh() string {
 	return name
 }
 
-func (s *scribe) expression(rule string, depth int) {
-	rows := 1 + max(0, s.IntN(5)-2)
+func (s *scribe) expression(rule string, depth int) [][]shape {
+	rows := make([][]shape, 1+max(0, s.IntN(5)-2))
 	for k := range rows {
 		if k > 0 {
 			s.signs = append(s.signs, sign{s.put("|"), rule, k})
 		}
 		var alt []string
-		for range s.IntN(4) {
-			alt = append(alt, s.part(depth))
+		for range s.parts(rows, k) {
+			plain, written := s.part(depth, len(alt))
+			alt, rows[k] = append(alt, plain), append(rows[k], written)
 		}
 		s.alts[rule] = append(s.alts[rule], alt)
 	}
+	return rows
 }
 
-func (s *scribe) part(depth int) string {
+// parts: how many a row has. Two rows of a choice that are nothing would clash.
+func (s *scribe) parts(rows [][]shape, k int) int {
+	if s.mild && (len(rows) == 1 || k > 0) {
+		return 1 + s.IntN(3)
+	}
+	return s.IntN(4)
+}
+
+func (s *scribe) part(depth, ahead int) (string, shape) {
 	kind := s.IntN(8)
 	if depth == 3 {
 		kind = s.IntN(5)
+	}
+	if s.mild && depth > 0 && ahead == 0 && s.IntN(4) > 0 {
+		kind = 0
 	}
 	switch kind {
 	case 0, 1, 2:
 		w := s.words[s.IntN(len(s.words))]
 		s.put(`"` + w + `"`)
-		return `"` + w
+		return `"` + w, shape{kind: '"', text: w}
 	case 3, 4:
 		n := s.names[s.IntN(len(s.names))]
 		if s.below < len(s.names) && s.IntN(8) > 0 {
@@ -91,45 +113,50 @@ func (s *scribe) part(depth int) string {
 			n = s.names[s.below+s.IntN(len(s.names)-s.below)]
 		}
 		s.used = append(s.used, placed{n, s.put(n)})
-		return n
+		return n, shape{kind: 'a', text: n}
 	}
 	within, whole := s.fresh(), s.fresh()
 	at := s.put("([{"[kind-5 : kind-4])
-	s.expression(within, depth+1)
+	written := shape{kind: "([{"[kind-5], rows: s.expression(within, depth+1)}
 	s.put(")]}"[kind-5 : kind-4])
 	if kind == 5 {
-		return within
+		return within, written
 	}
 	s.signs = append(s.signs, sign{at, whole, 1})
 	s.alts[whole] = [][]string{{within}, nil}
 	if kind == 7 {
 		s.alts[whole][0] = []string{within, whole}
 	}
-	return whole
+	return whole, written
 }
 
-// chance: a grammar of few names and words, so that they meet.
-func chance(r *rand.Rand) *model {
-	s := &scribe{Rand: r, model: &model{alts: map[string][][]string{}}}
-	count := 1 + r.IntN(4)
+const letters = "abcdefghijklmnopqrstuvwxyzABCDEFGHIJKLMNOPQRSTUVWXYZ"
+
+// chance: a grammar of few names and few words, so that they meet; or a mild one, of many words.
+func chance(r *rand.Rand, mild bool) *model {
+	s := &scribe{Rand: r, model: &model{alts: map[string][][]string{}, bodies: map[string][][]shape{}}, mild: mild}
+	count, words := 1+r.IntN(4), 2+r.IntN(12)
+	if mild {
+		words = len(letters)
+	}
 	for k := range count {
 		s.names = append(s.names, "stuvw"[k:k+1])
 	}
-	for k := range 2 + r.IntN(12) {
-		s.words = append(s.words, "abcdefghijklmnop"[k:k+1])
+	for k := range words {
+		s.words = append(s.words, letters[k:k+1])
 	}
 	for k, n := range slices.Clone(s.names) {
 		s.below = k + 1
-		if r.IntN(30) == 0 {
+		if !mild && r.IntN(30) == 0 {
 			n = s.names[0]
 		}
-		if r.IntN(30) == 0 {
+		if !mild && r.IntN(30) == 0 {
 			s.names = append(s.names, "x")
 		}
 		s.rules = append(s.rules, placed{n, s.put(n)})
 		s.put("=")
 		s.alts[n] = nil
-		s.expression(n, 0)
+		s.bodies[n] = s.expression(n, 0)
 		s.put(".")
 	}
 	slices.SortFunc(s.signs, func(a, b sign) int { return a.at - b.at })
@@ -306,7 +333,7 @@ func TestByModel(t *testing.T) {
 	r := rand.New(rand.NewPCG(1, 2))
 	count := map[string]int{}
 	for range 15000 {
-		m := chance(r)
+		m := chance(r, false)
 		want := m.verdict()
 		count[want.kind]++
 		if want.kind == "clash" {

@@ -51,22 +51,30 @@ type bracket struct {
 
 func (b bracket) within() expression { return b.in }
 
-// names: those that stand in an expression, in the order of the text.
-func (e expression) names() func(yield func(*name) bool) {
-	return func(yield func(*name) bool) { e.tellNames(yield) }
+// allParts: those of an expression, and those within them, in the order of the text.
+func (e expression) allParts() func(yield func(part) bool) {
+	return func(yield func(part) bool) { e.tellParts(yield) }
 }
 
-// tellNames answers whether more is wanted, so that a call within a call can end all of them.
-func (e expression) tellNames(yield func(*name) bool) bool {
+// tellParts answers whether more is wanted, so that a call within a call can end all of them.
+func (e expression) tellParts(yield func(part) bool) bool {
 	for _, r := range e {
 		for _, p := range r.parts {
-			if n, ok := p.(*name); ok && !yield(n) {
-				return false
-			}
-			if !p.within().tellNames(yield) {
+			if !yield(p) || !p.within().tellParts(yield) {
 				return false
 			}
 		}
 	}
 	return true
+}
+
+// names: those that stand in an expression, in the order of the text.
+func (e expression) names() func(yield func(*name) bool) {
+	return func(yield func(*name) bool) {
+		for p := range e.allParts() {
+			if n, ok := p.(*name); ok && !yield(n) {
+				return
+			}
+		}
+	}
 }
