@@ -93,6 +93,7 @@ func TestAnyNames(t *testing.T) {
 		}
 		p.Rules()(func(string, int) bool { return true })
 		p.Rules()(func(string, int) bool { return false })
+		p.Rules()(nil)
 	}
 }
 
@@ -101,7 +102,9 @@ func goThrough(x *grammar.Tree) {
 	x.Root()
 	x.Walk()(func(int, api.Node) bool { return true })
 	x.Walk()(func(int, api.Node) bool { return false })
+	x.Walk()(nil)
 	grammar.Fold(x, func(*api.Leaf) int { return 1 }, func(api.Node, []int) int { return 2 })
+	grammar.Fold[int](x, nil, nil)
 }
 
 // TestAnyWords (P1): no input makes Parse panic; beside an error there is no tree; no tree can be gone through, too.
@@ -135,6 +138,8 @@ func TestManyAtATime(t *testing.T) {
 					p.Parse(telling("a", "a", "b", "b"))
 					telling("a", "b")(yield)
 				})
+				x, _ := p.Parse(telling("a", "b"))
+				goThrough(x)
 				if got, want := ask(t, "s = ( ] ."), (written{at: 6}); got != want {
 					t.Errorf("P1: Compile: %+v, want %+v", got, want)
 				}

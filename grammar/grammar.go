@@ -36,7 +36,7 @@ func Compile(src string) (*Parser, error) {
 // Rules: the names of the rules, with where they stand (P4).
 func (p *Parser) Rules() func(yield func(string, int) bool) {
 	return func(yield func(string, int) bool) {
-		if p == nil {
+		if p == nil || yield == nil {
 			return
 		}
 		for _, r := range p.rules {

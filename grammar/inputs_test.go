@@ -3,6 +3,7 @@ package grammar_test
 import (
 	"errors"
 	"maps"
+	"math"
 	"math/rand/v2"
 	"slices"
 	"strconv"
@@ -203,6 +204,12 @@ func (m *model) fit(t *testing.T, x *grammar.Tree, words []string, count map[str
 	if !f.part(n, shape{kind: 'a', text: m.rules[0].name}) || f.at != len(words) {
 		t.Fatalf("P6: %q on %q: %s", m.text, words, nodeText(n))
 	}
+	if got, want := walked(x, math.MaxInt), from(n, 0); !slices.Equal(got, want) {
+		t.Fatalf("P7: %q on %q: %q, want %q", m.text, words, got, want)
+	}
+	if got, want := folded(x), calling(n); !slices.Equal(got, want) {
+		t.Fatalf("P8: %q on %q: %q, want %q", m.text, words, got, want)
+	}
 	for _, sign := range []string{"?(r", "?(-", "*()", "*(row", "1:"} {
 		if strings.Contains(nodeText(n), sign) {
 			count["tree with "+sign]++
@@ -210,7 +217,7 @@ func (m *model) fit(t *testing.T, x *grammar.Tree, words []string, count map[str
 	}
 }
 
-// TestInputsByModel (P6): grammars and inputs by chance (the same each time), held against the model. Each kind of answer must have come up often.
+// TestInputsByModel (P6, P7, P8): grammars and inputs by chance (the same each time), held against the model; and the trees that come of them, gone through. Each kind of answer must have come up often.
 func TestInputsByModel(t *testing.T) {
 	r := rand.New(rand.NewPCG(3, 4))
 	count := map[string]int{}
@@ -244,6 +251,26 @@ func leaves(n api.Node) []string {
 	return out
 }
 
+// through: a tree by Walk and by Fold, if it is not too great for that; in any case they end.
+func through(t *testing.T, x *grammar.Tree) {
+	const few = 10000
+	told := walked(x, few)
+	sum := grammar.Fold(x, func(*api.Leaf) int { return 1 }, func(_ api.Node, l []int) int {
+		out := 1
+		for _, k := range l {
+			out += k
+		}
+		return out
+	})
+	switch {
+	case len(told) == few && sum >= few:
+	case len(told) != sum || !slices.Equal(told, from(x.Root(), 0)):
+		t.Errorf("P7: %q, and %d nodes by Fold", told, sum)
+	case !slices.Equal(folded(x), calling(x.Root())):
+		t.Errorf("P8: %q, want %q", folded(x), calling(x.Root()))
+	}
+}
+
 // FuzzParse: any text and any words, with a blank between them. What holds of every parse, if the grammar can be used.
 func FuzzParse(f *testing.F) {
 	f.Add(`s = "a" [ s ] "b" .`, "a a b b")
@@ -271,6 +298,7 @@ func FuzzParse(f *testing.F) {
 			if asked != len(words) || !slices.Equal(leaves(x.Root()), words) {
 				t.Errorf("P6: %q on %q: %s", src, words, nodeText(x.Root()))
 			}
+			through(t, x)
 		case x != nil:
 			t.Errorf("P1: %q on %q: a tree beside %v", src, words, err)
 		case err == api.ErrLong:

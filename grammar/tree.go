@@ -7,22 +7,59 @@ type Tree struct {
 	root api.Node
 }
 
-// Root: its uppermost node (P6).
-func (t *Tree) Root() api.Node {
+// top: the tree's own uppermost node; nil, of no tree.
+func (t *Tree) top() api.Node {
 	if t == nil {
 		return nil
 	}
-	return copies{}.of(t.root)
+	return t.root
 }
 
-// copies: of nodes. Each is copied once, so that one that stands in many places stays one.
-type copies map[api.Node]api.Node
+// below: the nodes right below one, from left to right.
+func below(n api.Node) []api.Node {
+	switch x := n.(type) {
+	case *api.Rule:
+		return []api.Node{x.Body}
+	case *api.Row:
+		return x.Parts
+	case *api.Pick:
+		return []api.Node{x.Body}
+	case *api.Maybe:
+		if x.Body != nil {
+			return []api.Node{x.Body}
+		}
+	case *api.Many:
+		return x.Items
+	}
+	return nil
+}
+
+// nothing: a node as a rule that has become nothing; nil, if it is none. No other node stands in several places of a tree (see enough).
+func nothing(n api.Node) *api.Rule {
+	if r, ok := n.(*api.Rule); ok && r.From == r.To {
+		return r
+	}
+	return nil
+}
+
+// Root: its uppermost node (P6).
+func (t *Tree) Root() api.Node { return copied(t.top()) }
+
+// copied: a node and all below it, anew.
+func copied(n api.Node) api.Node { return copies{}.of(n) }
+
+// copies: of nodes that stand in several places, so that each stays one.
+type copies map[*api.Rule]api.Node
 
 func (c copies) of(n api.Node) api.Node {
-	if _, ok := c[n]; !ok {
-		c[n] = c.fresh(n)
+	r := nothing(n)
+	if r == nil {
+		return c.fresh(n)
 	}
-	return c[n]
+	if c[r] == nil {
+		c[r] = c.fresh(n)
+	}
+	return c[r]
 }
 
 func (c copies) fresh(n api.Node) api.Node {
@@ -49,15 +86,4 @@ func (c copies) list(l []api.Node) []api.Node {
 		out = append(out, c.of(n))
 	}
 	return out
-}
-
-// Walk: a tree's nodes, each ahead of those below it, with how deep they stand (P7).
-func (t *Tree) Walk() func(yield func(int, api.Node) bool) {
-	return func(yield func(int, api.Node) bool) {}
-}
-
-// Fold: a tree from below (P8).
-func Fold[T any](t *Tree, leaf func(*api.Leaf) T, inner func(api.Node, []T) T) T {
-	var none T
-	return none
 }
