@@ -2,35 +2,16 @@ package grammar
 
 import "predict/api"
 
-// patience: so many nodes are handed in at every place where they stand. Beyond them what was made of a rule that is nothing is taken again at its other places (see enough): there can be some 17^11 of these, and Fold is to end.
-const patience = 1000000
-
-// made: what became of a node.
-type made[T any] struct {
-	it T
-}
-
-// Fold: a tree from below (P8).
+// Fold: a tree from below (P8). A node that stands in several places (see enough) is handed in at each of them, however many these are: what becomes of it may differ from call to call.
 func Fold[T any](t *Tree, leaf func(*api.Leaf) T, inner func(api.Node, []T) T) T {
 	hand := handing(leaf, inner)
-	known := map[*api.Rule]made[T]{}
-	handed := 0
 	var fold func(n api.Node) T
 	fold = func(n api.Node) T {
-		again := nothing(n)
-		if m, ok := known[again]; ok && handed >= patience {
-			return m.it
-		}
 		var list []T
 		for _, x := range below(n) {
 			list = append(list, fold(x))
 		}
-		handed++
-		it := hand(copied(n), list)
-		if again != nil {
-			known[again] = made[T]{it}
-		}
-		return it
+		return hand(copied(n), list)
 	}
 	if n := t.top(); n != nil {
 		return fold(n)

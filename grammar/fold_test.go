@@ -306,53 +306,86 @@ func nodesOf(rules, names int) int {
 	return sum
 }
 
-// TestFoldManyNothings (P8, P1): of a great tree each node is handed in at its place; and one of more nodes than could ever be handed in comes to an end, too, with the right answer.
-func TestFoldManyNothings(t *testing.T) {
+// call: what leaf or inner is to be handed in: the node, and the numbers of the calls for those right below it.
+type call struct {
+	node  string
+	below []int
+}
+
+// upward: the calls of Fold by what Walk tells: a node's turn comes when Walk has left all below it.
+func upward(x *grammar.Tree) []call {
+	var calls, path []call
+	leave := func(deep int) {
+		for k := len(path) - 1; k >= deep; k-- {
+			if k > 0 {
+				path[k-1].below = append(path[k-1].below, len(calls))
+			}
+			calls = append(calls, path[k])
+			path = path[:k]
+		}
+	}
+	for deep, n := range x.Walk() {
+		leave(deep)
+		path = append(path, call{node: head(n)})
+	}
+	leave(0)
+	return calls
+}
+
+// TestFoldOfMany (P8, P7): each node is handed in once, at each place where it stands, those below ahead, from left to right, however many there are: held against what Walk tells. No two calls make the same: so what was made at one place cannot stand for what is made at another.
+func TestFoldOfMany(t *testing.T) {
+	kinds := `s={"x"a["y"a]}(a|"z").`
 	for _, c := range []struct {
-		rules, names int
-		each         bool
-	}{{7, 5, true}, {6, 8, true}, {api.MaxRules, 2, true}, {api.MaxRules, 17, false}} {
-		x := parsed(t, nothings(c.rules, c.names), "")
-		calls := 0
-		got := grammar.Fold(x, func(*api.Leaf) int { return 0 }, func(n api.Node, l []int) int {
-			if len(l) != len(below(n)) {
-				t.Fatalf("P8: %s with a list of %d", head(n), len(l))
+		src, words string
+		nodes      int
+	}{
+		{nothings(7, 5), "", nodesOf(7, 5)},
+		{nothings(6, 8), "", nodesOf(6, 8)},
+		{nothings(api.MaxRules, 2), "", nodesOf(api.MaxRules, 2)},
+		// More than a million nodes, all of them nothing at one place.
+		{nothings(5, 30), "", 1675862},
+		{nothings(6, 14), "", nodesOf(6, 14)},
+		// The same nothing at many places, among nodes of each kind.
+		{kinds + nothings(4, 27), strings.Repeat("x y ", 29) + "z", 58*nodesOf(4, 27) + 29*5 + 6},
+		{kinds + nothings(4, 27), strings.Repeat("x ", 59), 60*nodesOf(4, 27) + 59*3 + 5},
+	} {
+		x := parsed(t, c.src, c.words)
+		want := upward(x)
+		if len(want) != c.nodes {
+			t.Errorf("P7: %q on %q: %d nodes, want %d", c.src, c.words, len(want), c.nodes)
+		}
+		calls, wrong := 0, 0
+		turn := func(n api.Node, l []int) int {
+			if calls >= len(want) || head(n) != want[calls].node || !slices.Equal(l, want[calls].below) {
+				wrong++
 			}
 			calls++
-			sum := 1
-			for _, k := range l {
-				sum += k
-			}
-			return sum
-		})
-		if want := nodesOf(c.rules, c.names); got != want || (calls == want) != c.each {
-			t.Errorf("P8: %d rules of %d names: %d, by %d calls, want %d", c.rules, c.names, got, calls, want)
+			return calls - 1
+		}
+		last := grammar.Fold(x, func(n *api.Leaf) int { return turn(n, nil) }, turn)
+		if calls != c.nodes || wrong > 0 || last != calls-1 {
+			t.Errorf("P8: %q on %q: %d calls, %d of them wrong, the last with the number %d; want %d", c.src, c.words, calls, wrong, last, c.nodes)
 		}
 	}
 }
 
-// TestFoldNothingsByPlace (P8): what is nothing behind one word is not taken for what is nothing behind another.
-func TestFoldNothingsByPlace(t *testing.T) {
-	src := `s={"x"a}.` + nothings(api.MaxRules-1, 13)
-	x := parsed(t, src, strings.Join(times(api.MaxWords, "x"), " "))
-	each := nodesOf(api.MaxRules-1, 13)
-	sum := func(n api.Node, l []int) int {
-		from, to := n.Span()
-		if from < to {
-			out := 0
-			for _, k := range l {
-				out += k
-			}
-			return out
+// TestFoldCollects (P8, P1): of more than a million nodes each that is handed in is one of its own, which the caller may keep and change.
+func TestFoldCollects(t *testing.T) {
+	x := parsed(t, nothings(5, 30), "")
+	kept := map[*api.Rule]int{}
+	grammar.Fold(x, func(*api.Leaf) int { return 0 }, func(n api.Node, l []int) int {
+		r, ok := n.(*api.Rule)
+		if !ok {
+			return 0
 		}
-		for _, k := range l {
-			if k != from {
-				t.Fatalf("P8: %s over one at %d", head(n), k)
-			}
+		if len(l) != 1 || r.Name == "spoilt" || r.Body == nil {
+			t.Fatalf("P1: %s is handed in with a list of %d", head(n), len(l))
 		}
-		return from
-	}
-	if got, want := grammar.Fold(x, func(*api.Leaf) int { return 0 }, sum), api.MaxWords*(api.MaxWords+1)/2; got != want || each < 1000000 {
-		t.Errorf("P8: %d, want %d", got, want)
+		kept[r]++
+		r.Name, r.Body = "spoilt", nil
+		return 0
+	})
+	if want := nodesOf(5, 30) / 2; len(kept) != want {
+		t.Errorf("P8: %d rules were handed in, want %d", len(kept), want)
 	}
 }

@@ -251,23 +251,18 @@ func leaves(n api.Node) []string {
 	return out
 }
 
-// through: a tree by Walk and by Fold, if it is not too great for that; in any case they end.
+// through: a tree by Walk and by Fold. One that is too great for that is gone through some of the way.
 func through(t *testing.T, x *grammar.Tree) {
 	const few = 10000
 	told := walked(x, few)
-	sum := grammar.Fold(x, func(*api.Leaf) int { return 1 }, func(_ api.Node, l []int) int {
-		out := 1
-		for _, k := range l {
-			out += k
-		}
-		return out
-	})
-	switch {
-	case len(told) == few && sum >= few:
-	case len(told) != sum || !slices.Equal(told, from(x.Root(), 0)):
-		t.Errorf("P7: %q, and %d nodes by Fold", told, sum)
-	case !slices.Equal(folded(x), calling(x.Root())):
-		t.Errorf("P8: %q, want %q", folded(x), calling(x.Root()))
+	if len(told) == few {
+		return
+	}
+	if want := from(x.Root(), 0); !slices.Equal(told, want) {
+		t.Errorf("P7: %q, want %q", told, want)
+	}
+	if got, want := folded(x), calling(x.Root()); !slices.Equal(got, want) {
+		t.Errorf("P8: %q, want %q", got, want)
 	}
 }
 
